@@ -1,0 +1,1 @@
+"""The project's tests."""

@@ -1,0 +1,1 @@
+"""Walksago: exact draws by walks begun long ago."""

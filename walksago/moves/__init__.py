@@ -1,0 +1,1 @@
+"""Webs of moves as texts, and what their moves do."""
