@@ -3,23 +3,9 @@
 import copy
 import unittest
 
-from tests.webs import EIGHT_NAMES, GREATEST, ONE, STEPS, all_pasts, small_webs
+from tests.webs import EIGHT_NAMES, GREATEST, ONE, STEPS, all_pasts, small_webs, walked
 from walksago.errors import NoName
 from walksago.moves.done import led_by, met_by
-
-
-def walked(web, past):
-    """Each state walked on by itself, one move behind the other."""
-    states, moves = web
-    ends = []
-    for state in states:
-        for done in past:
-            for name, weight, images in moves:
-                if name == done:
-                    after = images[states.index(state)]
-            state = after
-        ends.append(state)
-    return tuple(ends)
 
 
 def met_by_trying(web, past):

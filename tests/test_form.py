@@ -1,6 +1,7 @@
 """The plainest rules of LANGUAGE.md, looked up in the files of the package."""
 
 import ast
+import builtins
 import pathlib
 import re
 import unittest
@@ -103,7 +104,7 @@ class FormTest(unittest.TestCase):
             bound = list(names_bound(tree))
             for name in bound:
                 self.assertRegex(name, r"^([A-Za-z][A-Za-z0-9_]*|__[a-z]+__)$")
-                self.assertNotIn(name, BUILTINS)
+                self.assertFalse(hasattr(builtins, name) and not name.startswith("__"), name)
             for node in ast.walk(tree):
                 if isinstance(node, ast.Name) and isinstance(node.ctx, ast.Load):
                     self.assertIn(node.id, BUILTINS | set(bound))

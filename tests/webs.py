@@ -1,6 +1,9 @@
 """Webs that several tests use, and ways to go through many of them."""
 
 import itertools
+import math
+import random
+from fractions import Fraction
 
 # Three states; `down` and `up` push them together, `turn` only swaps two.
 STEPS = (
@@ -22,6 +25,24 @@ GREATEST = (
     tuple((name, 99, EIGHT_NAMES[at:] + EIGHT_NAMES[:at]) for at, name in enumerate(EIGHT_NAMES)),
 )
 
+# `turn` leads round, `push` pushes one state onto its neighbour: no web of eight states needs a longer past.
+LONGEST = (
+    EIGHT_NAMES,
+    (("turn", 1, EIGHT_NAMES[1:] + EIGHT_NAMES[:1]), ("push", 1, (EIGHT_NAMES[1],) + EIGHT_NAMES[1:])),
+)
+
+# All fall to `a` by one move of a hundred, else nothing changes that lets them meet.
+SLOW = (("a", "b"), (("fall", 1, ("a", "a")), ("turn", 99, ("b", "a"))))
+
+# Two closed classes, (b, d) and (c,); a and e are outside of both.
+SPLIT = (
+    ("a", "b", "c", "d", "e"),
+    (("x", 1, ("b", "d", "c", "b", "a")), ("y", 3, ("c", "b", "c", "d", "e"))),
+)
+
+# One closed class, (b, c); a is outside of it.
+OUTSIDE = (("a", "b", "c"), (("x", 1, ("b", "c", "b")), ("y", 2, ("a", "b", "b"))))
+
 
 def all_pasts(web, longest):
     names = [name for name, weight, images in web[1]]
@@ -35,3 +56,61 @@ def small_webs():
         rows = list(itertools.product(states, repeat=len(states)))
         for one, other in itertools.combinations_with_replacement(rows, 2):
             yield states, (("a", 1, one), ("b", 2, other))
+
+
+def mixed_webs(most_states, most_moves, many=40):
+    """Webs of all sizes, their images and weights mixed, the same ones each time."""
+    mixed = random.Random(2026)
+    for at in range(many):
+        states = tuple("cabed"[: 1 + at % most_states])
+        names = "zyxwvuts"[: mixed.randint(1, most_moves)]
+        yield states, tuple((name, mixed.randint(1, 99), tuple(mixed.choices(states, k=len(states)))) for name in names)
+
+
+def walked(web, past):
+    """Each state walked on by itself, one move behind the other."""
+    states, moves = web
+    ends = []
+    for state in states:
+        for done in past:
+            for name, weight, images in moves:
+                if name == done:
+                    after = images[states.index(state)]
+            state = after
+        ends.append(state)
+    return tuple(ends)
+
+
+def as_numbers(shares):
+    """Pairs (above, below) as Python's own fractions."""
+    return [Fraction(above, below) for above, below in shares]
+
+
+def one_number(share):
+    return Fraction(share[0], share[1])
+
+
+def share_of(web, past):
+    """The product of the shares of a past's moves."""
+    weights = {name: weight for name, weight, images in web[1]}
+    return math.prod([Fraction(weights[name], sum(weights.values())) for name in past], start=Fraction(1))
+
+
+def as_pair(number):
+    """One of Python's own fractions as a pair (above, below)."""
+    number = Fraction(number)
+    return number.numerator, number.denominator
+
+
+def assert_fraction(test, told):
+    """That what is told is a fraction in least numbers."""
+    test.assertIs(type(told), tuple)
+    test.assertEqual([type(part) for part in told], [int, int])
+    test.assertGreaterEqual(told[1], 1)
+    test.assertEqual(math.gcd(*told), 1)
+
+
+def assert_fractions(test, told):
+    test.assertIs(type(told), tuple)
+    for share in told:
+        assert_fraction(test, share)

@@ -1,13 +1,12 @@
 """Where pasts lead the states, and where all meet by them."""
 
 from walksago.errors import NoName
+from walksago.moves.ways import names_in, ways_in
 
 
 def ways_of(web, past):
     """For each move of a past, in order, the places to which it leads the states; or NoName."""
-    states, moves = web
-    places = {state: at for at, state in enumerate(states)}
-    ways = {name: [places[image] for image in images] for name, weight, images in moves}
+    ways = dict(zip(names_in(web), ways_in(web)))
     # The whole past is looked at, also what lies ahead of the moves that are enough to meet.
     for name in past:
         if name not in ways:

@@ -1,0 +1,1 @@
+"""Draws by going back."""

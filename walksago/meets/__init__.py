@@ -1,0 +1,1 @@
+"""Whether and how soon all meet, and which orders help to see it."""

@@ -1,0 +1,1 @@
+"""Shares from state to state, and those that rest."""
