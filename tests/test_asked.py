@@ -3,13 +3,17 @@
 import copy
 import unittest
 
-from tests.webs import GREATEST, ONE, OUTSIDE, SPLIT, STEPS
+from tests.webs import ONE, OUTSIDE, SPLIT, STEPS
 from walksago.draws.backward import drawn_by, far_enough
 from walksago.errors import LongError
 from walksago.meets.ever import never_meeting, never_shown, shortest_past
+from walksago.meets.howlong import back_on_average, walk_on_average
+from walksago.meets.orders import keep_order, met_by_two
+from walksago.meets.rows import orders_kept
 from walksago.shares.chains import closed_classes, resting, rests, table_of
 
-WEBS = (ONE, STEPS, OUTSIDE, SPLIT, GREATEST)
+DOWN_UP = (STEPS[0], STEPS[1][:2])
+WEBS = (ONE, STEPS, DOWN_UP, OUTSIDE, SPLIT)
 ASKED = (
     (table_of,),
     (closed_classes,),
@@ -20,6 +24,14 @@ ASKED = (
     (shortest_past,),
     (never_meeting,),
     (never_shown, (("a", "b"), ("b", "a"))),
+    (back_on_average,),
+    (walk_on_average, "a"),
+    (walk_on_average, "d"),
+    (keep_order, ()),
+    (keep_order, (("a", "a"),)),
+    (met_by_two, (("a", "b"), ("b", "c")), ("down", "up", "up")),
+    (met_by_two, (), ("a", "a")),
+    (orders_kept,),
 )
 
 
