@@ -11,6 +11,9 @@ from walksago.meets.howlong import back_on_average, walk_on_average
 from walksago.meets.orders import keep_order, met_by_two
 from walksago.meets.rows import orders_kept
 from walksago.shares.chains import closed_classes, resting, rests, table_of
+from walksago.watched.few import fewest, is_enough
+from walksago.wrong.lopped import ahead_apart, back_apart, lopped_ahead, lopped_back
+from walksago.wrong.once import block_meets, once_shares, read_once
 
 DOWN_UP = (STEPS[0], STEPS[1][:2])
 WEBS = (ONE, STEPS, DOWN_UP, OUTSIDE, SPLIT)
@@ -32,6 +35,17 @@ ASKED = (
     (met_by_two, (("a", "b"), ("b", "c")), ("down", "up", "up")),
     (met_by_two, (), ("a", "a")),
     (orders_kept,),
+    (lopped_ahead,),
+    (lopped_back, 3),
+    (ahead_apart,),
+    (back_apart, 3),
+    (read_once, ("a",) * 5, 2),
+    (read_once, ("down", "down", "up", "up", "turn", "turn", "down", "down"), 2),
+    (block_meets, 3),
+    (once_shares, 3),
+    (is_enough, ("a",)),
+    (is_enough, ("c", "a")),
+    (fewest,),
 )
 
 

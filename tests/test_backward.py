@@ -6,7 +6,7 @@ from fractions import Fraction
 
 from tests.webs import (
     EIGHT_NAMES, GREATEST, LONGEST, ONE, OUTSIDE, SLOW, SPLIT, STEPS, as_numbers, as_pair, assert_fraction,
-    assert_fractions, mixed_webs, one_number, share_of, small_webs, walked,
+    assert_fractions, met_past_by_past, mixed_webs, one_number, small_webs,
 )
 from walksago.draws.backward import drawn_by, far_enough
 from walksago.errors import NoRest
@@ -16,16 +16,8 @@ HALVES = (("a", "b"), (("fall", 1, ("a", "a")), ("stay", 1, ("a", "b"))))
 
 
 def drawn_past_by_past(web, many):
-    names = [name for name, weight, images in web[1]]
-    met = {state: Fraction(0) for state in web[0]}
-    apart = Fraction(0)
-    for past in itertools.product(names, repeat=many):
-        ends = set(walked(web, past))
-        if len(ends) == 1:
-            met[ends.pop()] += share_of(web, past)
-        else:
-            apart += share_of(web, past)
-    return tuple(as_pair(share) for share in met.values()), as_pair(apart)
+    met = met_past_by_past(web, many)
+    return tuple(as_pair(share) for share in met), as_pair(1 - sum(met))
 
 
 class DrawnTest(unittest.TestCase):

@@ -96,6 +96,16 @@ def share_of(web, past):
     return math.prod([Fraction(weights[name], sum(weights.values())) for name in past], start=Fraction(1))
 
 
+def met_past_by_past(web, many):
+    """For each state the share of those pasts of so many moves that meet there."""
+    met = {state: Fraction(0) for state in web[0]}
+    for past in itertools.product([name for name, weight, images in web[1]], repeat=many):
+        ends = set(walked(web, past))
+        if len(ends) == 1:
+            met[min(ends)] += share_of(web, past)
+    return list(met.values())
+
+
 def as_pair(number):
     """One of Python's own fractions as a pair (above, below)."""
     number = Fraction(number)

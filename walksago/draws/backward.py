@@ -8,12 +8,21 @@ FARTHEST = 400
 
 
 def one_more(weights, steps, led):
-    """The weights of the pasts of one move more, by the groups to which they lead all."""
+    """The weights of the pasts of one move more, by where they lead what those of one less have led so far."""
     after = {}
-    for group in led:
-        for weight, further in zip(weights, steps[group]):
-            after[further] = after.get(further, 0) + led[group] * weight
+    for one in led:
+        for weight, further in zip(weights, steps[one]):
+            after[further] = after.get(further, 0) + led[one] * weight
     return after
+
+
+def weights_from(weights, steps, first, most):
+    """For each number of moves, from 0 to the most, the weights of its pasts by where they lead a first one."""
+    led = {first: 1}
+    yield led
+    for done in range(most):
+        led = one_more(weights, steps, led)
+        yield led
 
 
 def led_weights(web, most):
@@ -22,18 +31,18 @@ def led_weights(web, most):
     weights = weights_in(web)
     whole = whole_group(web)
     steps = group_steps(web, whole)
-    led = {whole: 1}
-    yield led
-    for done in range(most):
-        led = one_more(weights, steps, led)
-        yield led
+    yield from weights_from(weights, steps, whole, most)
+
+
+def met_weights(web, many):
+    """The weights of the pasts of so many moves that meet in each place, and the weight of all of them."""
+    led = list(led_weights(web, many))[-1]
+    return [led.get((at,), 0) for at in range(len(web[0]))], sum(led.values())
 
 
 def drawn_by(web, many):
     """The shares of the pasts of so many moves that meet in each state, and of those that do not meet."""
-    led = list(led_weights(web, many))[-1]
-    whole = sum(led.values())
-    met = [led.get((at,), 0) for at in range(len(web[0]))]
+    met, whole = met_weights(web, many)
     return tuple([least(weight, whole) for weight in met]), least(whole - sum(met), whole)
 
 

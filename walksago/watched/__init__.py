@@ -1,0 +1,1 @@
+"""Which states are enough to watch."""
