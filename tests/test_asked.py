@@ -1,4 +1,4 @@
-"""Promise [2] of all that is asked: nothing handed in is changed, and the same is answered the same."""
+"""Promise [2] of all that is asked: nothing handed in is changed, the same is answered the same, kinds of values."""
 
 import copy
 import unittest
@@ -10,14 +10,37 @@ from walksago.meets.ever import never_meeting, never_shown, shortest_past
 from walksago.meets.howlong import back_on_average, walk_on_average
 from walksago.meets.orders import keep_order, met_by_two
 from walksago.meets.rows import orders_kept
+from walksago.moves.done import led_by, met_by
+from walksago.moves.texts import read_web, web_shown
 from walksago.shares.chains import closed_classes, resting, rests, table_of
 from walksago.watched.few import fewest, is_enough
-from walksago.wrong.lopped import ahead_apart, back_apart, lopped_ahead, lopped_back
+from walksago.watched.tables import web_of
+from walksago.watched.two import beside
+from walksago.wrong.lopped import ahead_apart, apart, back_apart, lopped_ahead, lopped_back
 from walksago.wrong.once import block_meets, once_shares, read_once
+
+
+def read_again(web):
+    return read_web(web_shown(web))
+
+
+def cut_again(web, *wrong):
+    return web_of(web[0], (*table_of(web), *wrong))
+
+
+def apart_so_far(web, many, other):
+    return apart(drawn_by(web, many)[0], drawn_by(web, other)[0])
+
 
 DOWN_UP = (STEPS[0], STEPS[1][:2])
 WEBS = (ONE, STEPS, DOWN_UP, OUTSIDE, SPLIT)
 ASKED = (
+    (read_again,),
+    (web_shown,),
+    (led_by, ("a", "a")),
+    (led_by, ("up", "down", "down")),
+    (met_by, ("up", "down", "down")),
+    (met_by, ()),
     (table_of,),
     (closed_classes,),
     (resting,),
@@ -46,7 +69,13 @@ ASKED = (
     (is_enough, ("a",)),
     (is_enough, ("c", "a")),
     (fewest,),
+    (cut_again,),
+    (cut_again, ((1, 2), (1, 2))),
+    (beside, (("a", "b"), (("x", 3, ("b", "b")), ("y", 2, ("b", "a"))))),
+    (beside, STEPS),
+    (apart_so_far, 2, 7),
 )
+TRUTHS = (rests, never_shown, keep_order, is_enough)
 
 
 def answered(ask, web, handed):
@@ -55,6 +84,14 @@ def answered(ask, web, handed):
         return ask(web, *handed)
     except LongError as refused:
         return type(refused), vars(refused)
+
+
+def parts_in(told):
+    """What is told, and all that stands in it."""
+    yield told
+    if isinstance(told, tuple):
+        for part in told:
+            yield from parts_in(part)
 
 
 class AskedTest(unittest.TestCase):
@@ -75,6 +112,16 @@ class AskedTest(unittest.TestCase):
             other = (tuple(list(states)), tuple((name, weight, tuple(list(images))) for name, weight, images in moves))
             for ask, *handed in ASKED:
                 self.assertEqual(answered(ask, other, handed), answered(ask, (states, moves), handed))
+
+    def test_whole_numbers_are_no_truths_and_rows_are_tuples(self):
+        for web in WEBS:
+            for ask, *handed in ASKED:
+                try:
+                    told = ask(web, *handed)
+                except LongError:
+                    continue
+                kinds = {type(part) for part in parts_in(told)} - {type(None), tuple}
+                self.assertLessEqual(kinds, {bool} if ask in TRUTHS else {int, str})
 
 
 if __name__ == "__main__":

@@ -42,9 +42,8 @@ def move_in(row, states):
     return name, int(weight), tuple(images)
 
 
-def read_web(text):
-    """The web that a text tells; refused with NoWeb, by its first wrong row."""
-    rows = text.split("\n")
+def web_in(rows):
+    """The web that rows tell, at least one; refused with NoWeb, by the first wrong row."""
     states = states_in(rows[0])
     if states is None:
         raise NoWeb(0)
@@ -61,10 +60,20 @@ def read_web(text):
     return states, tuple(moves)
 
 
-def web_shown(web):
-    """The text that tells a web."""
+def read_web(text):
+    """The web that a text tells; refused with NoWeb, by its first wrong row."""
+    return web_in(text.split("\n"))
+
+
+def rows_shown(web):
+    """The rows that tell a web."""
     states, moves = web
     rows = [" ".join(states)]
     for name, weight, images in moves:
         rows.append(" ".join([name, str(weight), *images]))
-    return "\n".join(rows)
+    return rows
+
+
+def web_shown(web):
+    """The text that tells a web."""
+    return "\n".join(rows_shown(web))

@@ -2,7 +2,7 @@
 
 from walksago.errors import NoRest
 from walksago.moves.ways import place_steps, steps_from, ways_in, weights_in
-from walksago.shares.fractions import least, solved
+from walksago.shares.fractions import common_below, least, parts_of, solved
 
 
 def weights_between(web):
@@ -60,11 +60,9 @@ def rests(web, shares):
     """Whether shares rest."""
     if len(shares) != len(web[0]):
         return False
-    common = 1
-    for above, below in shares:
-        common *= below
     # Over one common below only whole numbers are left to be compared.
-    parts = [above * (common // below) for above, below in shares]
+    common = common_below(shares)
+    parts = parts_of(shares, common)
     if min(parts) < 0 or sum(parts) != common:
         return False
     return all([sum([part * much for part, much in zip(parts, row)]) == 0 for row in balance_rows(web)])

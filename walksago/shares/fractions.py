@@ -16,6 +16,19 @@ def least(above, below):
     return above // divisor, below // divisor
 
 
+def common_below(shares):
+    """The least number from 1 on that the belows of all fractions divide."""
+    common = 1
+    for above, below in shares:
+        common = common * below // common_divisor(common, below)
+    return common
+
+
+def parts_of(shares, below):
+    """What stands above in each fraction when it is written over a number that its own below divides."""
+    return [above * (below // own) for above, own in shares]
+
+
 def solved(rows):
     """The fractions that solve all rows; each row: a whole number for each fraction, then what they come to.
 

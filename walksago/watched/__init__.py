@@ -1,1 +1,1 @@
-"""Which states are enough to watch."""
+"""Few states that are enough to watch, and webs made out of tables and of other webs."""

@@ -3,7 +3,7 @@
 from walksago.draws.backward import met_weights
 from walksago.moves.ways import group_steps, weights_in, whole_group
 from walksago.shares.chains import resting
-from walksago.shares.fractions import least, solved
+from walksago.shares.fractions import common_below, least, parts_of, solved
 
 
 def visits_from(weights, steps, first):
@@ -42,12 +42,9 @@ def lopped_back(web, many):
 
 def apart(one, other):
     """How far two rows of shares are apart: half of the sum of their differences."""
-    above, below = 0, 1
-    for (mine, parts), (theirs, others) in zip(one, other):
-        both = parts * others
-        difference = abs(mine * others - theirs * parts)
-        above, below = least(above * both + difference * below, below * both)
-    return least(above, 2 * below)
+    common = common_below((*one, *other))
+    differences = [abs(mine - theirs) for mine, theirs in zip(parts_of(one, common), parts_of(other, common))]
+    return least(sum(differences), 2 * common)
 
 
 def apart_or_none(rest, lopped):
